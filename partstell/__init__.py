@@ -1,0 +1,1 @@
+"""Partstell: which measures of a table stored parts tell."""
