@@ -3,8 +3,10 @@
 import unittest
 
 from partstell.errors import NoSpace
+from partstell.measures import Variance, mean_of
 from partstell.ratios import Ratio
 from partstell.spaces import Space
+from partstell.tables import Table
 
 
 class Examples(unittest.TestCase):
@@ -22,6 +24,13 @@ class Examples(unittest.TestCase):
         space = Space([("a", ("x", "y")), ("b", ("u", "v"))])
         groups = space.whole().groups(["b"])
         self.assertEqual(groups[1].cells, (("x", "v"), ("y", "v")))
+
+    def test_mean_and_variance(self):
+        space = Space([("a", ("x", "y"))])
+        table = Table(space, [(("x",), 3, 3), (("y",), 4, 1)])
+        mean = mean_of(space.whole())
+        variance = Variance(space.whole())
+        self.assertEqual((mean(table).text(), variance(table).text()), ("13/4", "3/16"))
 
 
 if __name__ == "__main__":
