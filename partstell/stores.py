@@ -4,6 +4,7 @@ from partstell.checks import ask_same_space, is_name
 from partstell.errors import Full, NoName, NoPart, NoSuch
 from partstell.linear import Linear
 from partstell.measures import Greatest, Least
+from partstell.telling import tells
 
 MOST_PARTS = 16
 
@@ -38,6 +39,19 @@ class Store:
         if at not in self.parts and len(self.parts) >= MOST_PARTS:
             raise Full(MOST_PARTS + 1)
         self.parts[at] = worth
+
+    def __le__(self, other):
+        ask_same_space(self, other)
+        return all([tells(other, self.parts[name]) for name in self.parts])
+
+    def __lt__(self, other):
+        return self <= other and not other <= self
+
+    def __ge__(self, other):
+        return other <= self
+
+    def __gt__(self, other):
+        return other < self
 
     # Without this, Python would iterate over a store by asking for the parts 0, 1, 2 ..
     def __iter__(self):

@@ -3,10 +3,14 @@
 import unittest
 
 from partstell.errors import NoSpace
-from partstell.measures import Variance, mean_of
+from partstell.linear import count_of, sum_of
+from partstell.measures import Least, Variance, mean_of
 from partstell.ratios import Ratio
+from partstell.regions import Region
 from partstell.spaces import Space
+from partstell.stores import Store
 from partstell.tables import Table
+from partstell.telling import check_twins, tells, trimmed, twins_of, way_of
 
 
 class Examples(unittest.TestCase):
@@ -31,6 +35,31 @@ class Examples(unittest.TestCase):
         mean = mean_of(space.whole())
         variance = Variance(space.whole())
         self.assertEqual((mean(table).text(), variance(table).text()), ("13/4", "3/16"))
+
+    def test_a_way(self):
+        space = Space([("a", ("x", "y"))])
+        store = Store(space)
+        store["total"] = sum_of(space.whole())
+        store["first"] = sum_of(Region(space, [("x",)]))
+        way = way_of(store, sum_of(Region(space, [("y",)])))
+        self.assertEqual((way.used, way.answer({"total": 13, "first": 9}).text()), (("first", "total"), "4"))
+
+    def test_twins(self):
+        space = Space([("a", ("x", "y"))])
+        store = Store(space)
+        store["total"] = sum_of(space.whole())
+        measure = count_of(space.whole())
+        found = tells(store, measure), check_twins(store, measure, twins_of(store, measure))
+        self.assertEqual(found, (False, True))
+
+    def test_trimmed(self):
+        space = Space([("a", ("x", "y"))])
+        store = Store(space)
+        store["a"] = Least(Region(space, [("x",)]))
+        store["c"] = Least(space.whole())
+        before = tells(store, Least(Region(space, [("y",)])))
+        store["b"] = Least(Region(space, [("y",)]))
+        self.assertEqual((before, trimmed(store)), (False, ["a", "b"]))
 
 
 if __name__ == "__main__":

@@ -9,10 +9,12 @@ import unittest
 import partstell
 from partstell.linear import count_of
 from partstell.measures import Greatest, Least, Spread, Variance, mean_of
+from partstell.offers import Offer
 from partstell.ratios import Ratio
 from partstell.spaces import Space
 from partstell.stores import Store
 from partstell.tables import Table
+from partstell.ways import Twins, Way
 
 ORDER = ("__lt__", "__le__", "__gt__", "__ge__")
 SPACE = Space([("a", ["x"])])
@@ -76,13 +78,34 @@ CLASSES = {
         "Store": (
             "(space)",
             {"drop": "(self, name)", "names": "(self)", "copy": "(self)", "part_values": "(self, table)"},
-            ("__getitem__", "__setitem__", "__contains__", "__len__", "__eq__"), Store(SPACE), ("space",),
+            ("__getitem__", "__setitem__", "__contains__", "__len__", "__eq__", *ORDER), Store(SPACE), ("space",),
+        ),
+    },
+    "ways": {
+        "Way": (
+            "(measure, pieces)", {"answer": "(self, values)"}, ("__eq__", "used"),
+            Way(count_of(WHOLE), {}), ("measure", "pieces"),
+        ),
+        "Twins": ("(one, other)", {}, ("__eq__",), Twins(Table(SPACE), Table(SPACE)), ("one", "other")),
+    },
+    "offers": {
+        "Offer": (
+            "(space, rows)", {"store_of": "(self, names)", "total": "(self, names)"}, (),
+            Offer(SPACE, [("n", count_of(WHOLE), 1)]), ("space", "rows"),
         ),
     },
 }
 FUNCTIONS = {
     "linear": {"count_of": "(region)", "sum_of": "(region)", "squares_of": "(region)"},
     "measures": {"mean_of": "(region)"},
+    "telling": {
+        "tells": "(store, measure)", "trimmed": "(store)", "way_of": "(store, measure)",
+        "twins_of": "(store, measure)", "check_way": "(store, measure, candidate)",
+        "check_twins": "(store, measure, candidate)",
+    },
+    "compared": {
+        "alike": "(one, other)", "parting": "(one, other)", "joined": "(one, other)", "needless": "(store)",
+    },
 }
 
 
@@ -116,6 +139,9 @@ class Interface(unittest.TestCase):
         for file, kind, (arguments, methods, operators, made, fields) in each_class():
             for name in operators:
                 self.assertIn(name, vars(kind), kind)
+
+    def test_used_is_a_property(self):
+        self.assertIsInstance(vars(Way)["used"], property)
 
     def test_fields_are_set_on_each_object(self):
         for file, kind, (arguments, methods, operators, made, fields) in each_class():
