@@ -70,8 +70,7 @@ class Store:
     def copy(self):
         """Give a new store with the same parts."""
         other = Store(self.space)
-        for name, part in self.parts.items():
-            other[name] = part
+        other.parts = dict(self.parts)
         return other
 
     def part_values(self, table):
