@@ -1,6 +1,6 @@
 """What several files ask of the things that they are given."""
 
-from partstell.errors import OtherSpace
+from partstell.errors import NoValues, OtherSpace
 
 LETTERS = "abcdefghijklmnopqrstuvwxyz"
 DIGITS = "0123456789"
@@ -27,3 +27,10 @@ def ask_same_space(one, other):
     """Refuse two things, each with a field `space`, whose spaces are not equal."""
     if one.space != other.space:
         raise OtherSpace()
+
+
+def ask_values(names, values):
+    """Refuse a dict of values in which one of these names is missing."""
+    for name in names:
+        if name not in values:
+            raise NoValues(name)

@@ -49,6 +49,31 @@ def witness_of(vectors, target):
     return [(numbers[place] * factor).top if place in numbers else 0 for place in range(len(target))]
 
 
+def spanning_flags(vectors, targets):
+    """Give, for each choice of vectors, whether all targets are combinations of the chosen ones.
+
+    A choice is a number: the bit at a place says whether the vector at this place is in it.
+    """
+    if any([shares_of(vectors, target) is None for target in targets]):
+        return [False] * (1 << len(vectors))
+    # What the vectors combine to is 0 where it is 0 at all pivots: the rest may be left out.
+    pivots = [pivot for pivot, row in basis_of(vectors)[0]]
+    lines = [row_of(vector, 0, 0) for vector in [*vectors, *targets]]
+    states = [[[line[pivot] for pivot in pivots] for line in lines]]
+    for vector in vectors:
+        states = [rows[1:] for rows in states] + [cleared_by_first(rows) for rows in states]
+    return [all([first_place(row, len(pivots)) is None for row in rows]) for rows in states]
+
+
+def cleared_by_first(rows):
+    """Give the rows behind the first one, cleared at a place where the first one is not 0."""
+    first = rows[0]
+    pivot = first_place(first, len(first))
+    if pivot is None:
+        return rows[1:]
+    return [cleared(row, first, pivot) for row in rows[1:]]
+
+
 def row_of(vector, place, many):
     """Give the row of a vector, with this place among so many shares."""
     factor = common_multiple([number.bottom for number in vector])
@@ -80,7 +105,7 @@ def shortened(row):
         shared = common_divisor(shared, number)
         if shared == 1:
             return row
-    return [number // shared for number in row]
+    return row if shared == 0 else [number // shared for number in row]
 
 
 def first_place(row, width):

@@ -2,7 +2,8 @@
 
 from partstell.checks import ask_same_space
 from partstell.errors import NoQuotient
-from partstell.linear import count_of, numbers_of, squares_of, sum_of
+from partstell.linear import Linear, count_of, numbers_of, squares_of, sum_of
+from partstell.ratios import Ratio
 
 
 class Least:
@@ -86,6 +87,23 @@ def mean_of(region):
     return Quotient(sum_of(region), count_of(region))
 
 
+def is_extreme(thing):
+    """Tell whether something is a least or greatest measure."""
+    return isinstance(thing, (Least, Greatest))
+
+
+def is_measure(thing):
+    """Tell whether something is a measure."""
+    return is_extreme(thing) or isinstance(thing, (Linear, Quotient, Variance, Spread))
+
+
+def base_measures(measure):
+    """Give the linear, least and greatest measures on which the value of a measure rests."""
+    if isinstance(measure, Linear) or is_extreme(measure):
+        return (measure,)
+    return measures_under(measure)
+
+
 def measures_under(measure):
     """Give the measures on which the value of a quotient, a variance or a spread rests."""
     if isinstance(measure, Quotient):
@@ -105,6 +123,20 @@ def value_from(measure, values):
         return None if number == 0 else squares.over(number) - total.over(number) ** 2
     greatest, least = values
     return None if greatest is None or least is None else greatest - least
+
+
+def joined_value(measure, values):
+    """Give the value of a linear, least or greatest measure on rows that are in several lots.
+
+    The values are those on each lot.
+    """
+    if isinstance(measure, Linear):
+        total = Ratio(0)
+        for value in values:
+            total = total + value
+        return total
+    known = [value for value in values if value is not None]
+    return least_of(known) if isinstance(measure, Least) else greatest_of(known)
 
 
 def values_in(region, table):

@@ -164,7 +164,7 @@ def as_ratio(number):
 
 
 def common_divisor(one, other):
-    """Give the greatest common divisor of two integers that are not both 0."""
+    """Give the greatest common divisor of two integers, or 0 if both are 0."""
     while other != 0:
         one, other = other, one % other
     return abs(one)

@@ -74,6 +74,11 @@ class Table:
         return Table(self.space, Checked(rows))
 
 
+def is_table_over(space, thing):
+    """Tell whether something is a table over a space that is equal to this one."""
+    return isinstance(thing, Table) and thing.space == space
+
+
 def check_rows(space, rows):
     """Refuse rows of which no table can be made."""
     if not is_sequence(rows) or len(rows) > MOST_ROWS:

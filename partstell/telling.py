@@ -6,7 +6,7 @@ from partstell.differing import extreme_tables, linear_tables, mixed_tables
 from partstell.linear import Linear, numbers_of
 from partstell.measures import Greatest, Least, Spread, measures_under
 from partstell.ratios import Ratio
-from partstell.tables import Table
+from partstell.tables import is_table_over
 from partstell.ways import Twins, Way
 
 
@@ -71,9 +71,8 @@ def check_twins(store, measure, candidate):
     if not isinstance(candidate, Twins):
         return False
     one, other = candidate.one, candidate.other
-    for table in (one, other):
-        if not isinstance(table, Table) or table.space != store.space:
-            return False
+    if not is_table_over(store.space, one) or not is_table_over(store.space, other):
+        return False
     return store.part_values(one) == store.part_values(other) and measure(one) != measure(other)
 
 

@@ -1,8 +1,8 @@
 """What shows that a measure is told, and what shows that it is not."""
 
-from partstell.errors import NoValues
+from partstell.checks import ask_values
 from partstell.linear import Linear
-from partstell.measures import Greatest, Least, greatest_of, least_of, value_from
+from partstell.measures import Greatest, Least, joined_value, value_from
 from partstell.ratios import Ratio
 
 
@@ -27,14 +27,11 @@ class Way:
 
     def answer(self, values):
         """Give the value of the measure that follows from these values of parts."""
-        for name in self.used:
-            if name not in values:
-                raise NoValues(name)
+        ask_values(self.used, values)
         if isinstance(self.measure, Linear):
             return combined_value(self.pieces, values)
         if isinstance(self.measure, (Least, Greatest)):
-            found = [values[name] for name in self.pieces if values[name] is not None]
-            return least_of(found) if isinstance(self.measure, Least) else greatest_of(found)
+            return joined_value(self.measure, [values[name] for name in self.pieces])
         return value_from(self.measure, [way.answer(values) for way in self.pieces])
 
 

@@ -2,11 +2,15 @@
 
 import unittest
 
+from partstell.choosing import cheapest
 from partstell.errors import NoSpace
+from partstell.kept import merged
 from partstell.linear import count_of, sum_of
 from partstell.measures import Least, Variance, mean_of
+from partstell.offers import Offer
 from partstell.ratios import Ratio
 from partstell.regions import Region
+from partstell.showing import most_shown
 from partstell.spaces import Space
 from partstell.stores import Store
 from partstell.tables import Table
@@ -60,6 +64,22 @@ class Examples(unittest.TestCase):
         before = tells(store, Least(Region(space, [("y",)])))
         store["b"] = Least(Region(space, [("y",)]))
         self.assertEqual((before, trimmed(store)), (False, ["a", "b"]))
+
+    def test_choices(self):
+        space = Space([("a", ["x", "y"])])
+        first = space.where("a", ["x"])
+        second = space.where("a", ["y"])
+        rows = [("n", count_of(space.whole()), 1), ("x", count_of(first), 5), ("y", count_of(second), 3)]
+        offer = Offer(space, rows)
+        self.assertEqual(cheapest(offer, [count_of(first)]), (4, ("n", "y")))
+        self.assertEqual(cheapest(offer, [count_of(first)], hidden=[count_of(second)]), (5, ("x",)))
+        self.assertEqual(most_shown(offer, [count_of(first)]), (3, ("y",)))
+
+    def test_merged(self):
+        space = Space([("a", ["x", "y"])])
+        store = Store(space)
+        store["low"] = Least(space.whole())
+        self.assertEqual(merged(store, {"low": 3}, {"low": None}), {"low": 3})
 
 
 if __name__ == "__main__":

@@ -7,6 +7,7 @@ import pathlib
 import unittest
 
 import partstell
+from partstell.choosing import Evidence
 from partstell.linear import count_of
 from partstell.measures import Greatest, Least, Spread, Variance, mean_of
 from partstell.offers import Offer
@@ -94,6 +95,9 @@ CLASSES = {
             Offer(SPACE, [("n", count_of(WHOLE), 1)]), ("space", "rows"),
         ),
     },
+    "choosing": {
+        "Evidence": ("(lacks, leaks, hides)", {}, (), Evidence((), (), ()), ("lacks", "leaks", "hides")),
+    },
 }
 FUNCTIONS = {
     "linear": {"count_of": "(region)", "sum_of": "(region)", "squares_of": "(region)"},
@@ -105,6 +109,17 @@ FUNCTIONS = {
     },
     "compared": {
         "alike": "(one, other)", "parting": "(one, other)", "joined": "(one, other)", "needless": "(store)",
+    },
+    "choosing": {"cheapest": "(offer, asked, *, hidden=())", "evidence": "(offer, asked, *, hidden=())"},
+    "judging": {
+        "check_cheapest": "(offer, asked, answer, found, *, hidden=())",
+        "check_most_shown": "(offer, hidden, answer, found)",
+    },
+    "showing": {"most_shown": "(offer, hidden)", "show_evidence": "(offer, hidden)"},
+    "kept": {
+        "merged": "(store, values, more)", "after_put": "(store, values, cell, value, *, times=1)",
+        "after_taken": "(store, values, cell, value, *, times=1)", "taking_twins": "(store)",
+        "merge_twins": "(measure)",
     },
 }
 
