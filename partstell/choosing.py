@@ -23,8 +23,8 @@ def cheapest(offer, asked, *, hidden=()):
 
 def evidence(offer, asked, *, hidden=()):
     """Give what shows that the answer of `cheapest` is right."""
-    ask_for_choice(offer, asked, hidden)
-    return evidence_for(offer, asked, hidden, cheapest(offer, asked, hidden=hidden))
+    answer = cheapest(offer, asked, hidden=hidden)
+    return evidence_for(offer, asked, hidden, answer)
 
 
 def kept_field(field):

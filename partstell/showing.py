@@ -12,8 +12,8 @@ def most_shown(offer, hidden):
 
 def show_evidence(offer, hidden):
     """Give what shows that the answer of `most_shown` is right."""
-    ask_for_shown(offer, hidden)
-    return evidence_for(offer, (), hidden, most_shown(offer, hidden))
+    answer = most_shown(offer, hidden)
+    return evidence_for(offer, (), hidden, answer)
 
 
 def ask_for_shown(offer, hidden):

@@ -268,7 +268,7 @@ class MakingEvidence(unittest.TestCase):
             self.assertEqual(getattr(found, name), (1, [2], [5]))
 
     def test_anything_else_stays_as_it_is(self):
-        for odd in (None, 0, True, "abc", b"abc", (), (1, [2]), {}, {1: [2]}, N, OFFER, Ratio(1), Evidence, Store(SMALL)):
+        for odd in (None, 0, True, "abc", b"abc", (), (1, [2]), {}, {1: [2]}, N, OFFER, Ratio(1), Evidence):
             for fields in itertools.product((odd, ()), repeat=3):
                 found = Evidence(*fields)
                 self.assertIs(found.lacks, fields[0])

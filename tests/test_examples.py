@@ -3,8 +3,10 @@
 import unittest
 
 from partstell.choosing import cheapest
-from partstell.errors import NoSpace
+from partstell.desk import Desk
+from partstell.errors import BadText, NoSpace
 from partstell.kept import merged
+from partstell.leftopen import left
 from partstell.linear import count_of, sum_of
 from partstell.measures import Least, Variance, mean_of
 from partstell.offers import Offer
@@ -15,6 +17,7 @@ from partstell.spaces import Space
 from partstell.stores import Store
 from partstell.tables import Table
 from partstell.telling import check_twins, tells, trimmed, twins_of, way_of
+from partstell.texts import measure_text, read_measure
 
 
 class Examples(unittest.TestCase):
@@ -80,6 +83,28 @@ class Examples(unittest.TestCase):
         store = Store(space)
         store["low"] = Least(space.whole())
         self.assertEqual(merged(store, {"low": 3}, {"low": None}), {"low": 3})
+
+    def test_left(self):
+        space = Space([("a", ["x", "y"])])
+        first = space.where("a", ["x"])
+        store = Store(space)
+        store["low"] = Least(space.whole())
+        self.assertEqual(left(store, {"low": 2}, Least(first)), (2, None))
+
+    def test_texts(self):
+        space = Space([("a", ["x", "y"])])
+        first = space.where("a", ["x"])
+        measure = count_of(space.whole()) * Ratio(1, 2) - sum_of(first)
+        self.assertEqual(measure_text(measure), "1/2 count [x,y] plus -1 sum [x]")
+        with self.assertRaises(BadText) as held:
+            read_measure(space, "least [x] plus")
+        self.assertEqual(held.exception.place, 2)
+
+    def test_a_desk(self):
+        desk = Desk(Space([("a", ["x", "y"])]))
+        self.assertEqual(desk.tell("part n 1 count [x,y]"), [])
+        self.assertEqual(desk.tell("put x 3 2"), [])
+        self.assertEqual(desk.tell("ask 2 count [x,y]"), ["told 4"])
 
 
 if __name__ == "__main__":

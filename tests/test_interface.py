@@ -8,6 +8,7 @@ import unittest
 
 import partstell
 from partstell.choosing import Evidence
+from partstell.desk import Desk
 from partstell.linear import count_of
 from partstell.measures import Greatest, Least, Spread, Variance, mean_of
 from partstell.offers import Offer
@@ -98,6 +99,16 @@ CLASSES = {
     "choosing": {
         "Evidence": ("(lacks, leaks, hides)", {}, (), Evidence((), (), ()), ("lacks", "leaks", "hides")),
     },
+    "desk": {
+        "Desk": (
+            "(space)",
+            {
+                "tell": "(self, line)", "rehearse": "(self, lines)", "store_now": "(self)", "table_now": "(self)",
+                "journal": "(self)",
+            },
+            (), Desk(SPACE), (),
+        ),
+    },
 }
 FUNCTIONS = {
     "linear": {"count_of": "(region)", "sum_of": "(region)", "squares_of": "(region)"},
@@ -120,6 +131,18 @@ FUNCTIONS = {
         "merged": "(store, values, more)", "after_put": "(store, values, cell, value, *, times=1)",
         "after_taken": "(store, values, cell, value, *, times=1)", "taking_twins": "(store)",
         "merge_twins": "(measure)",
+    },
+    "leftopen": {
+        "consistent": "(store, values)", "left": "(store, values, measure)", "settled": "(store, values, measure)",
+        "left_tables": "(store, values, measure)",
+    },
+    "grouped": {
+        "grouped": "(space, kind, axes, *, within=None)", "rolls_up": "(space, stored, axes)",
+        "rolled": "(space, kind, fine, coarse, values)",
+    },
+    "texts": {
+        "measure_text": "(measure)", "read_measure": "(space, text)", "store_text": "(store)",
+        "read_store": "(space, lines)", "table_text": "(table)", "read_table": "(space, lines)",
     },
 }
 

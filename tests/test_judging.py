@@ -11,7 +11,7 @@ from offering import (
 )
 from partstell.choosing import Evidence, cheapest, evidence
 from partstell.judging import check_cheapest, check_most_shown
-from partstell.linear import count_of, sum_of
+from partstell.linear import sum_of
 from partstell.measures import Least, Variance, mean_of
 from partstell.ratios import Ratio
 from partstell.showing import most_shown, show_evidence
@@ -76,7 +76,8 @@ class Checking(unittest.TestCase):
             self.assertRefused(odd, empty, [N * 0], [])
 
     def test_anything_as_what_was_found(self):
-        for odd in (*ANYTHING, (self.lacks, self.leaks, self.hides), [self.right], (self.right,), {"found": self.right}):
+        fields = (self.lacks, self.leaks, self.hides)
+        for odd in (*ANYTHING, fields, list(fields), [self.right], (self.right,), {"found": self.right}):
             self.assertRefused(ANSWER, odd)
             self.assertRefused(None, odd)
 
@@ -92,7 +93,8 @@ class Checking(unittest.TestCase):
         lists = ([0, one, other], (0, one), (0, one, other, other), {0: one}, [("y",), 0, way], (("y",), 0))
         for field in ("lacks", "leaks", "hides"):
             right = getattr(self.right, field)
-            for odd in (*ANYTHING, *lists, list(right[0]), right[0][:2], (*right[0], right[0][2]), right, Twins(one, other)):
+            near = (list(right[0]), right[0][:2], (*right[0], right[0][2]), right, Twins(one, other))
+            for odd in (*ANYTHING, *lists, *near):
                 self.assertRefused(ANSWER, self.changed(field, (*right, odd)))
                 self.assertRefused(ANSWER, self.changed(field, (odd, *right)))
                 self.assertRefused(ANSWER, self.changed(field, (odd, *right[1:])))
@@ -190,7 +192,8 @@ class Checking(unittest.TestCase):
             (hides[0], None, hides[2]), (hides[0], [1, one, other], hides[2]), (hides[0], (1, one), hides[2]),
             (hides[0], (True, one, other), hides[2]), (hides[0], (1, one, one), hides[2]),
             (hides[0], (1, one, other.put(A, 1)), hides[2]), (hides[0], (1, None, other), hides[2]),
-            (hides[0], (1, Table(OTHER), Table(OTHER, [(("x",), 1, 1)])), hides[2]), (hides[0], (0, one, other), hides[2]),
+            (hides[0], (1, Table(OTHER), Table(OTHER, [(("x",), 1, 1)])), hides[2]),
+            (hides[0], (0, one, other), hides[2]),
             (hides[0], (1, one, other, other), hides[2]), (hides[0], (-2, one, other), hides[2]),
         ):
             self.assertRefused(ANSWER, Evidence(lacks, leaks, wrong), hidden=hidden)
@@ -337,7 +340,8 @@ class CheckingShown(unittest.TestCase):
         for wrong in (
             [place, one, other], (place, one), (place, one, one), (1, one, other), (-1, one, other), None,
             (False, one, other), (place, one, other.put(B, 1)), (place, None, other),
-            (place, Table(OTHER), Table(OTHER, [(("x",), 1, 1)])), (place, Table(SMALL), Table(SMALL, [(A, 0, 1), (B, 0, 1)])),
+            (place, Table(OTHER), Table(OTHER, [(("x",), 1, 1)])),
+            (place, Table(SMALL), Table(SMALL, [(A, 0, 1), (B, 0, 1)])),
         ):
             self.assertRefused(self.answer, Evidence((), self.leaks, (wrong,)))
         twins = (0, Table(SMALL), Table(SMALL, [(A, 0, 1)]))

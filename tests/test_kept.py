@@ -40,7 +40,8 @@ def full_store(space):
 
 def huge_table(space):
     cells = space.cells
-    return Table(space, [(cells[0], MOST, MOST), (cells[0], -MOST, 1), (cells[-1], MOST - 1, 10 ** 50), (cells[-1], 0, 3)])
+    rows = [(cells[0], MOST, MOST), (cells[0], -MOST, 1), (cells[-1], MOST - 1, 10 ** 50), (cells[-1], 0, 3)]
+    return Table(space, rows)
 
 
 def stores_and_tables(number, many):

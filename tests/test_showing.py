@@ -13,7 +13,9 @@ from partstell.measures import Greatest, Least, Spread, Variance, mean_of
 from partstell.offers import Offer
 from partstell.showing import most_shown, show_evidence
 from partstell.spaces import Space
-from test_choosing import ALWAYS_TOLD, EMPTY, N, NO_MEASURES, NO_SEQUENCES, OFFER, WHOLE, X, Y, power_measure, power_offer
+from test_choosing import (
+    ALWAYS_TOLD, EMPTY, N, NO_MEASURES, NO_SEQUENCES, OFFER, WHOLE, X, Y, power_measure, power_offer,
+)
 
 
 class Showing(Judging, unittest.TestCase):
