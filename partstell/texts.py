@@ -86,7 +86,8 @@ def unlike_numbers(numbers):
     found = []
     for number in numbers:
         if number != 0 and number not in found:
-            found.insert(len([each for each in found if each < number]), number)
+            place = len([each for each in found if each < number])
+            found.insert(place, number)
     return found
 
 
